@@ -1,0 +1,1 @@
+"""Three books of one fund held against each other."""
