@@ -7,7 +7,10 @@ from threebooks.books import answers
 NUMBERS = {
     "clear": 0, "account": 1, "entry": 2, "take": 3, "pair": 4,
     "unpair": 5, "byref": 6, "run": 7, "best": 8, "mirror": 9,
+    "tick": 10, "entryat": 11, "group": 12, "breaks": 13, "balance": 14,
+    "gap": 15, "aged": 16, "explain": 17, "counts": 18,
 }
+SEARCHES = ("run", "best", "explain")
 PAIR_BOOKS = ((0, 1), (0, 2), (1, 2))
 LOWEST = -(10 ** 18)
 HIGHEST = 10 ** 18
@@ -40,6 +43,8 @@ def split(told):
 
 def ask(calls):
     """The answers to these calls, one list each."""
+    if not 1 <= len(calls) <= 400 or len([call for call in calls if call[0] in SEARCHES]) > 20:
+        raise AssertionError("that is no line")
     found = split(answers(line(calls)))
     if len(found) != len(calls):
         raise AssertionError(f"{len(calls)} calls, {len(found)} answers")
@@ -77,20 +82,43 @@ def nearly_full(many):
 def probes():
     """Calls whose answers tell apart what the calls before them may have left behind."""
     places = ((0, 1), (0, 2), (1, 2), (0, 3), (1, 3), (2, 3))
-    asked = [("best", p, a) for p in range(3) for a in range(2)]
+    asked = [("counts",)]
+    asked += [("entryat", place) for place in range(12)]
+    asked += [("group", group) for group in range(8)]
+    asked += [(name, p, a) for name in ("breaks", "gap", "explain") for p in range(3) for a in range(2)]
+    asked += [("aged", 0, a, 0) for a in range(2)]
     asked += [("pair", p, list(two)) for p in range(3) for two in places]
     asked += [("entry", 0, a, 0, 1, 0) for a in range(4)]
-    asked += [("unpair", group) for group in range(8)]
-    asked += [("take", place) for place in range(20)]
+    asked += [("unpair", group) for group in range(4)]
+    asked += [("take", place) for place in range(8)]
+    asked += [("tick", 1), ("counts",)]
     return asked
+
+
+def changes_nothing(case, calls, call):
+    """Check that behind the calls this call leaves all as it was, and give back its answer."""
+    with case.subTest(call=call):
+        found = ask(calls + [call] + probes())
+        case.assertEqual(found[len(calls) + 1:], ask(calls + probes())[len(calls):])
+        return found[len(calls)]
 
 
 def refused(case, calls, call, refusal):
     """Check that behind the calls this call is refused so, and that all goes on as if it had not been said."""
-    with case.subTest(call=call):
-        found = ask(calls + [call] + probes())
-        case.assertEqual(found[len(calls)], [refusal])
-        case.assertEqual(found[len(calls) + 1:], ask(calls + probes())[len(calls):])
+    case.assertEqual(changes_nothing(case, calls, call), [refusal], call)
+
+
+def explanation(told):
+    """The left and the right places of each group that an answer of explain tells of."""
+    groups, at = [], 1
+    while at < len(told):
+        middle = at + 2 + told[at]
+        end = middle + told[at + 1]
+        groups.append((told[at + 2:middle], told[middle:end]))
+        at = end
+    if len(groups) != told[0]:
+        raise AssertionError(f"{told} tells of {len(groups)} groups")
+    return groups
 
 
 def plans_by_labels(left_many, right_many):
@@ -139,7 +167,7 @@ class PlainBooks:
         return getattr(self, "do_" + call[0])(*call[1:])
 
     def do_clear(self):
-        self.accounts, self.entries, self.groups = {}, [], []
+        self.today, self.accounts, self.entries, self.groups = 0, {}, [], []
         return [0]
 
     def do_account(self, a, window, tolerance, size):
@@ -272,3 +300,75 @@ class PlainBooks:
         if other < entry["book"]:
             sides.reverse()
         return [len(self.entries) - 1, self.group(p, sides[:1], sides[1:])]
+
+    def do_tick(self, n):
+        if n not in range(1, 1001):
+            return [-1]
+        if self.today + n > 100000:
+            return [-3]
+        self.today += n
+        return [self.today]
+
+    def do_entryat(self, place):
+        if not self.is_there(place):
+            return [-4]
+        told = [self.entries[place][name] for name in ("book", "a", "day", "amount", "ref")]
+        for p in range(3):
+            told.append(-1)
+            for number, group in enumerate(self.groups):
+                if group["holds"] and group["p"] == p and place in group["left"] + group["right"]:
+                    told[-1] = number
+        return told
+
+    def do_group(self, place):
+        if place not in range(len(self.groups)) or not self.groups[place]["holds"]:
+            return [-4]
+        group = self.groups[place]
+        left, right = group["left"], group["right"]
+        gap = self.amounts(left) - self.amounts(right)
+        return [group["p"], self.entries[left[0]]["a"], gap, len(left), *left, *right]
+
+    def do_breaks(self, p, a):
+        if self.refused(p, a):
+            return self.refused(p, a)
+        left, right = self.still(p, a, 0), self.still(p, a, 1)
+        return [len(left), len(right), *left, *right]
+
+    def do_balance(self, book, a):
+        if self.refused(book, a):
+            return self.refused(book, a)
+        return [0, sum(x["amount"] for x in self.entries if x["there"] and (x["book"], x["a"]) == (book, a))]
+
+    def do_gap(self, p, a):
+        if self.refused(p, a):
+            return self.refused(p, a)
+        balances = [self.do_balance(book, a)[1] for book in PAIR_BOOKS[p]]
+        still = self.amounts(self.still(p, a, 0)) - self.amounts(self.still(p, a, 1))
+        groups = [self.do_group(place) for place in range(len(self.groups))]
+        return [0, balances[0] - balances[1], still, sum(group[2] for group in groups if group[:2] == [p, a])]
+
+    def do_aged(self, p, a, n):
+        if self.refused(p, a):
+            return self.refused(p, a)
+        if n not in range(100001):
+            return [-1]
+        places = self.still(p, a, 0) + self.still(p, a, 1)
+        old = [place for place in places if self.today - self.entries[place]["day"] >= n]
+        return [len(old), *old]
+
+    def do_explain(self, p, a):
+        refusal, found = self.explained(p, a)
+        if refusal:
+            return refusal
+        (lefts, rights), (_, groups, _, labels) = found
+        told = [-groups]
+        for number in range(1, 1 - groups):
+            left = [place for place, label in zip(lefts, labels) if label == number]
+            right = [place for place, label in zip(rights, labels[len(lefts):]) if label == number]
+            told += [len(left), len(right), *left, *right]
+        return told
+
+    def do_counts(self):
+        there = len([entry for entry in self.entries if entry["there"]])
+        holding = len([group for group in self.groups if group["holds"]])
+        return [self.today, len(self.entries), there, len(self.groups), holding]

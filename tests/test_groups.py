@@ -3,18 +3,10 @@
 import unittest
 
 from tests.helper import HIGHEST, LOWEST, ask, entries, last, nearly_full, refused, small_fund
-from threebooks.changes import mirror_entry, pair_entries
-from threebooks.fund import Account, Fund
 
 # Entries 0 to 2 of book 0, 3 to 5 of book 1, 6 of book 2; 7 and 8 of account 1.
 FUND = small_fund(0, 0, 10, 1, [(0, 100), (50, 70), (9, -5)], [(99, 100), (3, 60), (3, 15)])
 FUND += entries(2, 0, [(4, 100)]) + small_fund(1, 0, 0, 1, [(0, 100)], [(0, 100)])
-
-
-def sides(fund, place):
-    """The places of a group's left and of its right entries."""
-    group = fund.group_at(place)
-    return [[entry.place for entry in side] for side in (group.left, group.right)]
 
 
 class PairTest(unittest.TestCase):
@@ -38,12 +30,9 @@ class PairTest(unittest.TestCase):
         self.assertEqual(last(calls + [("take", 6)]), [0])
 
     def test_in_the_order_told_on_each_side(self):
-        fund = Fund()
-        fund.accounts[0] = Account(0, 0, 1)
-        for book in (0, 1, 0, 1, 0, 1):
-            fund.add_entry(book, 0, 0, 5, 0)
-        self.assertEqual(pair_entries(fund, 0, [3, 4, 0, 5, 1, 2]), [0])
-        self.assertEqual(sides(fund, 0), [[4, 0, 2], [3, 5, 1]])
+        calls = [("account", 0, 0, 0, 1)] + [("entry", book, 0, 0, 5, 0) for book in (0, 1, 0, 1, 0, 1)]
+        calls += [("pair", 0, [3, 4, 0, 5, 1, 2]), ("group", 0)]
+        self.assertEqual(ask(calls)[-2:], [[0], [0, 0, 0, 3, 4, 0, 2, 3, 5, 1]])
 
     def test_tolerance_just_met_and_just_missed(self):
         for left, right in ((100, 90), (90, 100), (-100, -90), (5, -5), (-5, 5)):
@@ -157,16 +146,11 @@ class UnpairTest(unittest.TestCase):
 
 class ByrefTest(unittest.TestCase):
     def groups(self, lefts, rights, account=(0, 0, 0, 1)):
-        """Which two entries byref brought together, in the order of the groups, told by who can be paired anew."""
+        """Which two entries byref brought together, in the order of the groups."""
         calls = [("account", *account)] + entries(0, 0, lefts) + entries(1, 0, rights) + [("byref", 0, 0)]
-        many = last(calls)[0]
-        found = []
-        for group in range(many):
-            freed = calls + [("unpair", group)]
-            free = [p for p in range(len(lefts) + len(rights)) if last(freed + [("take", p)]) == [0]]
-            bound = [p for p in range(len(lefts) + len(rights)) if last(calls + [("take", p)]) == [-5]]
-            found.append(tuple(p for p in free if p in bound))
-        return found
+        told = ask(calls + [("group", group) for group in range(last(calls)[0])])[len(calls):]
+        self.assertEqual([group[:4] for group in told], [[0, 0, 0, 1]] * len(told))
+        return [tuple(group[4:]) for group in told]
 
     def test_same_reference_and_amount(self):
         lefts = [(0, 10, 1), (0, 20, 2), (0, 30, 3)]
@@ -246,14 +230,6 @@ class MirrorTest(unittest.TestCase):
             refused(self, calls, ("take", place), -5)
             refused(self, calls, ("take", 9), -5)
             self.assertEqual(ask(calls + [("unpair", 0), ("pair", p, [9, place])])[-2:], [[2], [1]])
-
-    def test_each_of_the_two_is_on_its_books_side(self):
-        for p, book, told in ((0, 0, [[0], [1]]), (0, 1, [[1], [0]]), (1, 2, [[1], [0]]), (2, 1, [[0], [1]])):
-            fund = Fund()
-            fund.accounts[0] = Account(0, 0, 1)
-            fund.add_entry(book, 0, 0, 5, 0)
-            self.assertEqual(mirror_entry(fund, p, 0), [1, 0])
-            self.assertEqual(sides(fund, 0), told)
 
     def test_the_new_one_is_open_in_other_pairs(self):
         calls = FUND + [("mirror", 0, 0)]

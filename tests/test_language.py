@@ -2,9 +2,11 @@
 
 import ast
 import builtins
+import io
 import keyword
 import pathlib
 import re
+import tokenize
 import unittest
 
 ROOT = pathlib.Path(__file__).resolve().parent.parent
@@ -318,11 +320,94 @@ def kept_value_faults(tree):
                 yield "L22", node.lineno
 
 
+def top_names(tree):
+    """The names that a file's top binds or draws from elsewhere, and those of them that are classes."""
+    names, classes = set(), set()
+    for node in tree.body:
+        if isinstance(node, ast.ImportFrom):
+            names |= {part.name for part in node.names}
+            classes |= {part.name for part in node.names if re.match("[A-Z]+[a-z]", part.name)}
+        if isinstance(node, (ast.FunctionDef, ast.ClassDef)):
+            names.add(node.name)
+        if isinstance(node, ast.ClassDef):
+            classes.add(node.name)
+        if isinstance(node, ast.Assign):
+            names |= {target.id for target in node.targets if isinstance(target, ast.Name)}
+    return names, classes
+
+
+def class_use_faults(tree):
+    """L18: a class is called, a base or asked for, and values are given through a local name."""
+    names, classes = top_names(tree)
+    parents = parents_of(tree)
+    for node in ast.walk(tree):
+        if isinstance(node, ast.Name) and node.id in classes:
+            parent = parents[node]
+            as_base = isinstance(parent, (ast.ClassDef, ast.ExceptHandler, ast.Raise, ast.Attribute))
+            called = isinstance(parent, ast.Call) and (parent.func is node or name_of_call(parent) == "isinstance")
+            if not (as_base or called):
+                yield "L18", node.lineno
+        if isinstance(node, (ast.Attribute, ast.Subscript)) and isinstance(node.ctx, ast.Store):
+            root = node
+            while isinstance(root, (ast.Attribute, ast.Subscript)):
+                root = root.value
+            if isinstance(root, ast.Name) and root.id in names:
+                yield "L18", node.lineno
+
+
+def error_faults(tree):
+    """L19: errors are made on the spot, and Python's own are taken round little."""
+    for node in ast.walk(tree):
+        if isinstance(node, ast.Raise) and not isinstance(node.exc, ast.Call):
+            yield "L19", node.lineno
+        if not isinstance(node, ast.Try):
+            continue
+        taken = {part.id for handler in node.handlers for part in ast.walk(handler) if isinstance(part, ast.Name)}
+        allowed = {"int", "str", "index", "remove"} if taken & {"ValueError", "LookupError"} else set()
+        for part in [part for row in node.body for part in ast.walk(row)]:
+            if taken & {"ValueError", "LookupError", "IndexError"} and isinstance(part, ast.Call):
+                if getattr(part.func, "id", getattr(part.func, "attr", "")) not in allowed:
+                    yield "L19", part.lineno
+
+
+def lambda_faults(tree):
+    """L13: two lambdas with the same parameters don't stand on one line."""
+    seen = set()
+    for node in ast.walk(tree):
+        if isinstance(node, ast.Lambda):
+            told = (node.lineno, tuple(arg.arg for arg in node.args.args))
+            if told in seen:
+                yield "L13", node.lineno
+            seen.add(told)
+
+
+def underscored_faults(tree):
+    """L28: the methods with two underscores, but __init__, store and change nothing."""
+    for node in ast.walk(tree):
+        if isinstance(node, ast.FunctionDef) and node.name in UNDERSCORED - {"__init__"}:
+            for part in ast.walk(node):
+                stored = isinstance(getattr(part, "ctx", None), ast.Store) and not isinstance(part, ast.Name)
+                changing = isinstance(part, ast.Attribute) and part.attr in CHANGING
+                if stored or changing or isinstance(part, ast.AugAssign):
+                    yield "L28", part.lineno
+
+
+def token_faults(text):
+    """L27: escapes and long numbers."""
+    for token in tokenize.generate_tokens(io.StringIO(text).readline):
+        if token.type == tokenize.STRING and re.search(r"""\\[^nt\\'"]""", token.string.replace("\\\\", "")):
+            yield "L27", token.start[0]
+        if token.type == tokenize.NUMBER and len(token.string) > 900:
+            yield "L27", token.start[0]
+
+
 def faults(text):
     """The rule and line of everything in a file's text that lies outside the rules."""
     tree = ast.parse(text)
     found = list(text_faults(text)) + list(top_faults(tree)) + list(kept_faults(tree))
     found += list(name_faults(tree)) + list(attribute_faults(tree)) + list(kept_value_faults(tree))
+    found += list(class_use_faults(tree)) + list(error_faults(tree)) + list(lambda_faults(tree))
+    found += list(underscored_faults(tree)) + list(token_faults(text))
     parents = parents_of(tree)
     for node in ast.walk(tree):
         within = parents.get(node)
@@ -411,17 +496,26 @@ class CheckerTest(unittest.TestCase):
         ("L7", "def f(x):\n    return {y: y for y in x}\n"), ("L7", "def f(x):\n    return max(*x)\n"),
         ("L7", "def f(x):\n    return [z for y in x for z in y]\n"), ("L8", "def f(x):\n    return hash(x)\n"),
         ("L10", "X = 1" + " " * 130 + "\n"), ("L10", "def f():\n" + "    pass\n" * 41),
+        ("L13", "def f(x):\n    return sorted(sorted(x, key=lambda y: y), key=lambda y: -y)\n"),
         ("L12", "def _f():\n    pass\n"), ("L14", "# \u00e4\n"), ("L15", "X = [[1]]\n"), ("L15", "X = 1\nX = 2\n"),
         ("L15", "def f(min):\n    return min\n"),
         ("L15", "X = [1]\n\n\ndef f():\n    X.append(2)\n"), ("L15", "X = [1]\n\n\ndef f():\n    return X\n"),
         ("L17", "# a type\n"), ("L17", "def f(x):\n    return x.open\n"), ("L17", "def open():\n    pass\n"),
+        ("L18", "class A:\n    pass\n\n\ndef f():\n    return [A]\n"),
+        ("L18", "class A:\n    pass\n\n\ndef f():\n    A.x = 1\n"),
+        ("L18", "class A:\n    def f(self):\n        pass\n\n    def f(self):\n        pass\n"),
         ("L19", "def f(x):\n    try:\n        x()\n    except Exception:\n        pass\n"),
+        ("L19", "def f(x):\n    try:\n        x()\n    except ValueError:\n        pass\n"),
+        ("L19", "def f(x):\n    try:\n        return x[int(1)]\n    except IndexError:\n        return 0\n"),
+        ("L19", "def f(x):\n    raise x\n"),
         ("L20", "def f(x, y):\n    return x is y\n"), ("L21", "def f(x: int):\n    return x\n"),
         ("L22", "def f(x):\n    return [len, x]\n"), ("L23", "def f(x):\n    y = range(x)\n    return y\n"),
         ("L23", "def f(x):\n    for y in x:\n        x.append(y)\n"),
         ("L24", "def f(x):\n    y = set(x)\n    return y\n"),
         ("L25", "def f(x):\n    x.sort()\n"), ("L26", "def f(x):\n    x.sort = 1\n"),
         ("L27", "def f(n):\n    return 2 ** n\n"), ("L28", "class A:\n    def __init__(self):\n        return None\n"),
+        ("L27", "X = '\\x41'\n"), ("L27", "X = " + "1" * 901 + "\n"),
+        ("L28", "class A:\n    def __len__(self):\n        self.x = 1\n        return 0\n"),
     )
 
     def test_each_kind_of_fault_is_seen(self):

@@ -1,29 +1,22 @@
-"""The calls run and best, and the least explanation that they lean on."""
+"""The calls run, best and explain, and the least explanation that they lean on."""
 
 import random
 import unittest
 
-from tests.helper import HIGHEST, LOWEST, ask, entries, last, nearly_full, plain_best, refused, small_fund
-from threebooks.fund import Account, Fund
-from threebooks.plans import least_explanation
+from tests.helper import HIGHEST, LOWEST, ask, changes_nothing, entries, explanation, last, nearly_full, plain_best
+from tests.helper import refused, small_fund
 
 EXAMPLE = small_fund(0, 2, 1, 2, [(1, 100), (2, 50)], [(2, 151), (3, 50)])
 
 
 def explained(window, tolerance, size, lefts, rights):
     """The least explanation of (day, amount) rows, as its row of labels."""
-    fund = Fund()
-    for day, amount in lefts:
-        fund.add_entry(0, 0, day, amount, 0)
-    for day, amount in rights:
-        fund.add_entry(1, 0, day, amount, 0)
-    some, others = fund.open_left(0, 0), fund.open_right(0, 0)
-    plan = least_explanation(some, others, Account(window, tolerance, size))
+    calls = small_fund(0, window, tolerance, size, lefts, rights)
+    still, told = ask(calls + [("breaks", 0, 0), ("explain", 0, 0)])[-2:]
     labels = {}
-    for number, fit in enumerate(plan.fits, start=1):
-        for entry in fit.left + fit.right:
-            labels[entry.place] = number
-    return tuple(labels.get(entry.place, 0) for entry in some + others)
+    for number, (left, right) in enumerate(explanation(told), start=1):
+        labels.update({place: number for place in left + right})
+    return tuple(labels.get(place, 0) for place in still[2:])
 
 
 def best(window, tolerance, size, lefts, rights):
@@ -39,6 +32,18 @@ class ExampleTest(unittest.TestCase):
         calls = EXAMPLE + [("run", 0, 0)]
         self.assertEqual(last(calls + [("unpair", 0)]), [3])
         self.assertEqual([last(calls + [("take", place)]) for place in range(4)], [[-5], [-5], [-5], [0]])
+        self.assertEqual(last(EXAMPLE + [("explain", 0, 0)]), [1, 2, 1, 0, 1, 2])
+        self.assertEqual(last(calls + [("group", 0)]), [0, 0, -1, 2, 0, 1, 2])
+        self.assertEqual(last(calls + [("explain", 0, 0)]), [0])
+
+    def test_entry_1_with_3_leaves_two_over(self):
+        calls = EXAMPLE + [("pair", 0, [1, 3]), ("breaks", 0, 0), ("best", 0, 0)]
+        self.assertEqual(ask(calls)[-3:], [[0], [1, 1, 0, 2], [2, 0, 0]])
+
+    def test_what_the_books_differ_by(self):
+        calls = EXAMPLE + [("run", 0, 0), ("balance", 0, 0), ("balance", 1, 0), ("gap", 0, 0), ("breaks", 0, 0)]
+        self.assertEqual(ask(calls)[-4:], [[0, 150], [0, 201], [0, -51, -50, -1], [0, 1, 3]])
+        self.assertEqual(last(EXAMPLE + [("gap", 0, 0)]), [0, -51, -51, 0])
 
 
 class FitTest(unittest.TestCase):
@@ -136,6 +141,16 @@ class BetterPlanTest(unittest.TestCase):
         self.assertEqual(explained(0, 0, 1, [(0, 5)] * 2, [(0, 5)] * 2), (1, 2, 1, 2))
         self.assertEqual(explained(0, 0, 3, [(0, 5)] * 3, [(0, 5), (0, 10)]), (1, 1, 2, 2, 1))
 
+    def test_the_lesser_row_of_labels_with_many_groups(self):
+        # The gaps are together the same whoever is with whom, as all right amounts are above the left ones.
+        lefts, rights = [(0, 5), (0, 1), (0, 3), (0, 2), (0, 4)], [(0, 6), (0, 9), (0, 7), (0, 8), (0, 6)]
+        self.assertEqual(explained(0, 5, 1, lefts, rights), (1, 2, 3, 4, 5, 1, 5, 4, 3, 2))
+        self.assertEqual(best(0, 5, 1, lefts, rights), [0, 5, 21])
+        lefts, rights = [(0, 3), (0, 1), (0, 3)], [(0, 3), (0, 1), (0, 1)]
+        self.assertEqual(explained(0, 2, 2, lefts, rights), (1, 2, 3, 1, 2, 3))
+        lefts, rights = [(0, 1), (0, 5), (1, 2), (1, 2), (2, 1)], [(0, 4), (1, 4), (1, 5), (2, 1)]
+        self.assertEqual(explained(1, 3, 2, lefts, rights), (1, 2, 1, 3, 4, 1, 3, 2, 4))
+
     def test_left_labels_count_before_right_ones(self):
         # If 10 were with the first right one, the right labels would be less, but the left ones more.
         lefts, rights = [(0, 5), (0, 5), (0, 10)], [(0, 10), (0, 10)]
@@ -156,12 +171,24 @@ class BetterPlanTest(unittest.TestCase):
 
     def compare(self, chance, many_lefts, many_rights):
         window, tolerance, size = chance.randrange(4), chance.choice((0, 1, 3, 50)), chance.randrange(1, 4)
-        span = chance.choice((4, 30))
+        span, signs = chance.choice((4, 30)), (-1, 1, 1)
         rows = [
-            sorted([(chance.randrange(5), chance.choice((-1, 1, 1)) * chance.randrange(1, span)) for n in range(many)],
+            sorted([(chance.randrange(5), chance.choice(signs) * chance.randrange(1, span)) for n in range(many)],
                    key=lambda row: row[0])
             for many in (many_lefts, many_rights)
         ]
+        self.compare_rows(window, tolerance, size, rows)
+
+    def compare_alike(self, chance, many_lefts, many_rights):
+        """Few amounts and days, so that many plans are as good but for their rows of labels."""
+        window, tolerance, size = chance.choice((1, 2, 2)), chance.choice((1, 2, 2)), chance.randrange(1, 4)
+        rows = [
+            sorted([(chance.randrange(3), chance.randrange(1, 4)) for n in range(many)], key=lambda row: row[0])
+            for many in (many_lefts, many_rights)
+        ]
+        self.compare_rows(window, tolerance, size, rows)
+
+    def compare_rows(self, window, tolerance, size, rows):
         told = plain_best(rows[0], rows[1], window, tolerance, size)
         with self.subTest(window=window, tolerance=tolerance, size=size, rows=rows):
             self.assertEqual(best(window, tolerance, size, *rows), [told[0], -told[1], told[2]])
@@ -173,6 +200,15 @@ class BetterPlanTest(unittest.TestCase):
             self.compare(chance, chance.randrange(4), chance.randrange(4))
         for _ in range(60):
             self.compare(chance, 4, 4)
+
+    def test_against_a_plain_search_where_many_plans_are_alike(self):
+        chance = random.Random(22)
+        for _ in range(150):
+            self.compare_alike(chance, 3, 3)
+        for _ in range(60):
+            self.compare_alike(chance, 4, 4)
+        for _ in range(20):
+            self.compare_alike(chance, *chance.choice(((5, 3), (3, 5), (4, 5), (5, 4))))
 
     def test_against_a_plain_search_at_5_and_5(self):
         chance = random.Random(21)
@@ -196,19 +232,18 @@ class RunTest(unittest.TestCase):
         self.assertEqual(ask(calls + [("unpair", 2), ("take", 0), ("take", 5)])[-2:], [[0], [0]])
 
     def test_entries_of_a_group_stand_in_their_order(self):
-        fund = Fund()
+        calls = [("account", 0, 3, 0, 3)]
         for day, amount in ((3, 1), (1, 2), (2, 3)):
-            fund.add_entry(0, 0, day, amount, 0)
-            fund.add_entry(1, 0, 3 - day, 2, 0)
-        plan = least_explanation(fund.open_left(0, 0), fund.open_right(0, 0), Account(3, 0, 3))
-        self.assertEqual([[entry.place for entry in side] for fit in plan.fits for side in (fit.left, fit.right)],
-                         [[2], [1], [4, 0], [5, 3]])
+            calls += entries(0, 0, [(day, amount)]) + entries(1, 0, [(3 - day, 2)])
+        self.assertEqual(ask(calls + [("run", 0, 0), ("group", 0), ("group", 1)])[-2:],
+                         [[0, 0, 0, 1, 2, 1], [0, 0, 0, 2, 4, 0, 5, 3]])
 
     def test_open_ones_alone(self):
         calls = EXAMPLE + [("pair", 0, [1, 3])]
         self.assertEqual(last(calls + [("best", 0, 0)]), [2, 0, 0])
         self.assertEqual(last(calls + [("unpair", 0), ("best", 0, 0)]), [1, 1, 1])
         self.assertEqual(last(EXAMPLE + [("take", 2), ("run", 0, 0)]), [1, 1])
+        self.assertEqual(last(EXAMPLE + [("take", 2), ("explain", 0, 0)]), [1, 1, 1, 1, 3])
 
     def test_each_pair_has_open_ones_of_its_own(self):
         calls = [("account", 1, 0, 0, 1)] + [("entry", book, 1, 0, 5, 0) for book in (2, 1, 0)]
@@ -228,7 +263,7 @@ class RunTest(unittest.TestCase):
 
     def test_refusals_and_their_order(self):
         six = small_fund(0, 0, 0, 1, [(0, 5)] * 6, [(0, 5)])
-        for name in ("run", "best"):
+        for name in ("run", "best", "explain"):
             for a in (1, -1, 4, LOWEST, HIGHEST):
                 refused(self, EXAMPLE, (name, 0, a), -2)
                 refused(self, EXAMPLE, (name, 3, a), -2)
@@ -242,12 +277,16 @@ class RunTest(unittest.TestCase):
             calls = small_fund(0, 0, 0, 1, [(0, 5)] * lefts, [(0, 5)] * rights)
             refused(self, calls, ("run", 0, 0), -8)
             refused(self, calls, ("best", 0, 0), -8)
+            refused(self, calls, ("explain", 0, 0), -8)
         calls = small_fund(0, 0, 0, 1, [(0, 5)] * 5, [(0, 5)] * 5)
+        self.assertEqual(last(calls + [("explain", 0, 0)]), [5] + [x for n in range(5) for x in (1, 1, n, n + 5)])
         self.assertEqual(ask(calls + [("best", 0, 0), ("run", 0, 0)])[-2:], [[0, 5, 0], [5, 0]])
 
     def test_6_of_which_5_are_open(self):
         calls = small_fund(0, 0, 0, 1, [(0, 5)] * 6, [(0, 5)] * 6)
         refused(self, calls + [("take", 0)], ("best", 0, 0), -8)
+        refused(self, calls + [("take", 0)], ("explain", 0, 0), -8)
+        self.assertEqual(last(calls + [("take", 0), ("take", 6), ("explain", 0, 0)])[:5], [5, 1, 1, 1, 7])
         self.assertEqual(last(calls + [("take", 0), ("take", 6), ("best", 0, 0)]), [0, 5, 0])
         self.assertEqual(last(calls + [("pair", 0, [0, 6]), ("best", 0, 0)]), [0, 5, 0])
         refused(self, calls + [("pair", 0, [0, 6]), ("unpair", 0)], ("best", 0, 0), -8)
@@ -259,6 +298,7 @@ class RunTest(unittest.TestCase):
         calls += [("unpair", 195)]
         refused(self, calls, ("run", 2, 0), -3)
         self.assertEqual(last(calls + [("best", 2, 0)]), [0, 3, 0])
+        self.assertEqual(last(calls + [("explain", 2, 0)]), [3, 1, 1, 129, 195, 1, 1, 130, 196, 1, 1, 131, 197])
         self.assertEqual(last(calls + [("account", 0, 0, 0, 3), ("run", 2, 0)]), [-3])
 
     def test_three_hundred_groups_and_none_more_to_make(self):
@@ -271,6 +311,59 @@ class RunTest(unittest.TestCase):
         refused(self, full, ("run", 2, 1), -2)
         refused(self, full, ("run", 3, 0), -1)
         refused(self, full, ("run", 2, 0), -8)
+
+
+class ExplainTest(unittest.TestCase):
+    def explain(self, *given):
+        return last(small_fund(0, *given) + [("explain", 0, 0)])
+
+    def test_nothing_is_open_or_fits(self):
+        self.assertEqual(self.explain(0, 0, 1, [], []), [0])
+        self.assertEqual(self.explain(9, 1000000, 3, [(0, 5), (0, 6)], []), [0])
+        self.assertEqual(self.explain(9, 1000000, 3, [], [(0, 5), (0, 6)]), [0])
+        self.assertEqual(self.explain(0, 0, 3, [(0, 5)], [(0, 6)]), [0])
+
+    def test_in_the_order_of_their_first_left_entries(self):
+        lefts, rights = [(4, 30), (0, 3), (2, 20), (0, 4)], [(2, 20), (4, 30), (0, 7)]
+        self.assertEqual(self.explain(0, 0, 2, lefts, rights), [3, 2, 1, 1, 3, 6, 1, 1, 2, 4, 1, 1, 0, 5])
+
+    def test_entries_of_a_group_stand_in_their_order(self):
+        told = self.explain(4, 0, 3, [(4, 10), (1, 200), (4, 4)], [(3, 113), (2, 1), (1, 100)])
+        self.assertEqual(told, [1, 3, 3, 1, 0, 2, 5, 4, 3])
+
+    def test_entries_of_one_day_stand_as_they_came(self):
+        self.assertEqual(self.explain(0, 0, 3, [(3, 2), (3, 1), (3, 4)], [(3, 7)]), [1, 3, 1, 0, 1, 2, 3])
+        self.assertEqual(self.explain(0, 0, 1, [(3, 5)] * 3, [(3, 5)] * 2), [2, 1, 1, 1, 3, 1, 1, 2, 4])
+
+    def test_one_that_came_later_with_an_earlier_day(self):
+        calls = small_fund(0, 9, 0, 1, [(3, 5)], [(3, 5)]) + entries(0, 0, [(2, 5)])
+        self.assertEqual(last(calls + [("explain", 0, 0)]), [1, 1, 1, 0, 1])
+        self.assertEqual(last(calls + entries(1, 0, [(2, 5)]) + [("explain", 0, 0)]), [2, 1, 1, 2, 3, 1, 1, 0, 1])
+
+    def test_each_pair_and_each_account(self):
+        calls = [("account", 2, 0, 0, 1)] + [("entry", book, 2, 0, 5, 0) for book in (2, 1, 0)]
+        self.assertEqual(ask(calls + [("explain", p, 2) for p in range(3)])[-3:],
+                         [[1, 1, 1, 2, 1], [1, 1, 1, 2, 0], [1, 1, 1, 1, 0]])
+        calls += [("account", 0, 0, 0, 1), ("run", 1, 2)]
+        self.assertEqual(ask(calls + [("explain", 0, 0), ("explain", 0, 2), ("explain", 1, 2)])[-3:],
+                         [[0], [1, 1, 1, 2, 1], [0]])
+
+    def test_an_account_told_anew(self):
+        self.assertEqual(last(EXAMPLE + [("account", 0, 2, 1, 1), ("explain", 0, 0)]), [1, 1, 1, 1, 3])
+        self.assertEqual(last(EXAMPLE + [("account", 0, 2, 51, 1), ("explain", 0, 0)]), [2, 1, 1, 0, 2, 1, 1, 1, 3])
+        calls = EXAMPLE + [("run", 0, 0), ("account", 0, 2, 0, 3), ("entry", 0, 0, 3, 50, 0), ("explain", 0, 0)]
+        self.assertEqual(last(calls), [1, 1, 1, 4, 3])
+
+    def test_today_does_not_matter(self):
+        self.assertEqual(last(EXAMPLE + [("tick", 1000), ("explain", 0, 0)]), [1, 2, 1, 0, 1, 2])
+
+    def test_three_hundred_groups_do_not_matter(self):
+        full = nearly_full(0) + [("unpair", 197)]
+        self.assertEqual(ask(full + [("explain", 2, 0), ("run", 2, 0)])[-2:], [[1, 1, 1, 131, 197], [-3]])
+
+    def test_changes_nothing(self):
+        self.assertEqual(changes_nothing(self, EXAMPLE, ("explain", 0, 0)), [1, 2, 1, 0, 1, 2])
+        self.assertEqual(changes_nothing(self, EXAMPLE, ("best", 0, 0)), [1, 1, 1])
 
 
 if __name__ == "__main__":

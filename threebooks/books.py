@@ -1,8 +1,9 @@
 """The interface: one list of calls is handed in, one list of their answers is given back."""
 
-from threebooks.asks import ask_best
+from threebooks.asks import ask_aged, ask_balance, ask_best, ask_breaks, ask_counts, ask_entry, ask_explain
+from threebooks.asks import ask_gap, ask_group
 from threebooks.changes import clear_all, mirror_entry, pair_by_reference, pair_entries, run_plan
-from threebooks.changes import take_entry, tell_account, unpair_group, write_entry
+from threebooks.changes import take_entry, tell_account, tick_days, unpair_group, write_entry
 from threebooks.fund import Fund
 
 CLEAR = 0
@@ -15,9 +16,18 @@ BYREF = 6
 RUN = 7
 BEST = 8
 MIRROR = 9
+TICK = 10
+ENTRYAT = 11
+GROUP = 12
+BREAKS = 13
+BALANCE = 14
+GAP = 15
+AGED = 16
+EXPLAIN = 17
+COUNTS = 18
 
 # How many whole numbers stand behind each call's number, ahead of its row.
-HOW_MANY = (0, 4, 5, 1, 1, 1, 2, 2, 2, 2)
+HOW_MANY = (0, 4, 5, 1, 1, 1, 2, 2, 2, 2, 1, 1, 1, 2, 2, 2, 3, 2, 0)
 
 
 def answer_change(fund, number, given, row):
@@ -39,12 +49,30 @@ def answer_change(fund, number, given, row):
         return run_plan(fund, given[0], given[1])
     if number == MIRROR:
         return mirror_entry(fund, given[0], given[1])
+    if number == TICK:
+        return tick_days(fund, given[0])
     return None
 
 
 def answer_ask(fund, number, given):
     if number == BEST:
         return ask_best(fund, given[0], given[1])
+    if number == ENTRYAT:
+        return ask_entry(fund, given[0])
+    if number == GROUP:
+        return ask_group(fund, given[0])
+    if number == BREAKS:
+        return ask_breaks(fund, given[0], given[1])
+    if number == BALANCE:
+        return ask_balance(fund, given[0], given[1])
+    if number == GAP:
+        return ask_gap(fund, given[0], given[1])
+    if number == AGED:
+        return ask_aged(fund, given[0], given[1], given[2])
+    if number == EXPLAIN:
+        return ask_explain(fund, given[0], given[1])
+    if number == COUNTS:
+        return ask_counts(fund)
     return None
 
 

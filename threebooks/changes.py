@@ -1,7 +1,7 @@
 """The calls that change the fund: each gives back the list of its answer's numbers."""
 
-from threebooks.checks import pair_refusal, plan_refusal, within
-from threebooks.fund import PAIR_BOOKS, Account, gap_of
+from threebooks.checks import plan_refusal, range_refusal, within
+from threebooks.fund import LAST_DAY, PAIR_BOOKS, Account, gap_of
 from threebooks.plans import plan_for
 from threebooks.refusals import FULL, GAP_TOO_WIDE, NO_ACCOUNT, NOT_FREE, NOT_THERE, ONE_BOOK, OUT_OF_RANGE
 
@@ -25,7 +25,7 @@ def tell_account(fund, a, window, tolerance, size):
 def write_entry(fund, book, a, day, amount, reference):
     if a not in fund.accounts:
         return [NO_ACCOUNT]
-    if not (within(book, 0, 2) and within(day, 0, 100000) and within(reference, 0, 1000000)):
+    if not (within(book, 0, 2) and within(day, 0, LAST_DAY) and within(reference, 0, 1000000)):
         return [OUT_OF_RANGE]
     if amount == 0 or not within(amount, -MOST_AMOUNT, MOST_AMOUNT):
         return [OUT_OF_RANGE]
@@ -99,7 +99,7 @@ def reference_matches(lefts, rights):
 
 
 def pair_by_reference(fund, p, a):
-    refusal = pair_refusal(fund, p, a)
+    refusal = range_refusal(fund, p, a)
     if refusal != 0:
         return [refusal]
     matches = reference_matches(fund.open_left(p, a), fund.open_right(p, a))
@@ -138,3 +138,12 @@ def mirror_entry(fund, p, place):
     if is_left:
         return [image.place, fund.add_group(p, [entry], [image])]
     return [image.place, fund.add_group(p, [image], [entry])]
+
+
+def tick_days(fund, n):
+    if not within(n, 1, 1000):
+        return [OUT_OF_RANGE]
+    if fund.today + n > LAST_DAY:
+        return [FULL]
+    fund.today = fund.today + n
+    return [fund.today]

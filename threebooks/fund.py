@@ -6,6 +6,9 @@ PAIR_BOOKS = ((0, 1), (0, 2), (1, 2))
 MOST_ENTRIES = 200
 MOST_GROUPS = 300
 
+# Neither an entry's day nor today lies behind it.
+LAST_DAY = 100000
+
 NO_GROUP = -1
 
 
@@ -38,8 +41,9 @@ class Entry:
 
 
 class Group:
-    def __init__(self, pair, left, right):
+    def __init__(self, pair, account, left, right):
         self.pair = pair
+        self.account = account
         self.left = left
         self.right = right
         # A group that is undone keeps its place, so it stays in its list.
@@ -51,6 +55,7 @@ class Fund:
         self.begin()
 
     def begin(self):
+        self.today = 0
         self.accounts = {}
         self.entries = []
         self.groups = []
@@ -82,6 +87,18 @@ class Fund:
     def how_many_open(self, pair, account):
         return len(self.open_left(pair, account)) + len(self.open_right(pair, account))
 
+    def balance(self, book, account):
+        return sum([
+            entry.amount for entry in self.entries
+            if entry.book == book and entry.account == account and entry.there
+        ])
+
+    def groups_that_hold(self, pair, account):
+        return [
+            group for group in self.groups
+            if group.pair == pair and group.account == account and group.holds
+        ]
+
     def has_room_for_entry(self):
         return len(self.entries) < MOST_ENTRIES
 
@@ -95,7 +112,7 @@ class Fund:
 
     def add_group(self, pair, left, right):
         place = len(self.groups)
-        self.groups.append(Group(pair, left, right))
+        self.groups.append(Group(pair, left[0].account, left, right))
         for entry in left + right:
             entry.in_groups[pair] = place
         return place
